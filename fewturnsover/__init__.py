@@ -1,0 +1,1 @@
+"""Fewturnsover: hands with calls of any depth, gone by a few turns."""
