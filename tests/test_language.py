@@ -30,6 +30,10 @@ INTERFACE = {
     "errors": "TurnsError NoProgram NoRun NoStand NoMachine NoLimit NoOrder NoText NoRow NoHand NoPoint NoChoice NoName TooMany Bare",
     "names": "is_whole is_name",
     "programs": "look_at_program hands_of first_hands like_hands row_at",
+    "stands": "first_stand is_stand steps fault_at",
+    "walker": "Walker",
+    "runs": "stands_of is_faulty put_together",
+    "machines": "is_machine reads controls_of least_pile",
 }
 
 
