@@ -18,8 +18,12 @@ def is_rising(things):
     return all([things[at - 1] < things[at] for at in range(1, len(things))])
 
 
-def are_values(thing, sizes):
-    """Tell of anything whether it is a tuple with a value below each of the sizes."""
-    if not is_tuple(thing, len(sizes), len(sizes)):
+def are_values(thing, boxes):
+    """Tell of anything whether it is a tuple with a value of each of the boxes."""
+    if not isinstance(thing, tuple) or len(thing) != len(boxes):
         return False
-    return all([is_between(value, 0, size - 1) for value, size in zip(thing, sizes)])
+    for value, box in zip(thing, boxes):
+        # What is_between asks is asked in place: stands are looked at often.
+        if not isinstance(value, int) or not 0 <= value < box[1] or value is True or value is False:
+            return False
+    return True

@@ -1,46 +1,40 @@
-"""A program as its steps need it: names made numbers, once for many steps."""
+"""A program as many steps need it: its rows numbered, each once."""
 
-from fewturnsover.programs import look_at_program, numbers_from_first
-
-
-def numbered(things):
-    """Tell a dict from the names of boxes, texts or hands to their numbers."""
-    return {thing[0]: number for number, thing in enumerate(things)}
-
-
-def sizes_of(boxes):
-    """Tell the sizes of boxes."""
-    return tuple([box[1] for box in boxes])
+from fewturnsover.moves import moves_of, numbered_row
+from fewturnsover.programs import look_at_program, numbers_from_first, row_of
 
 
 class Layout:
-    """What the steps of a program look up, made of what was found to be a program.
-
-    A hand's control is the common state with the values of its own boxes behind it:
-    `places` tells, hand by hand, where in it the box of a name is.
-    """
+    """What the steps of a program look up, made of what was found to be a program."""
 
     def __init__(self, program):
         boxes, hands = program
-        own_from = len(boxes) + len(hands)
+        self.whole = program
         self.begun_from = len(boxes)
-        self.common_sizes = sizes_of(boxes) + (2,) * len(hands)
-        self.own_sizes = [sizes_of(hand[1]) for hand in hands]
-        self.places = []
-        for hand in hands:
-            places = numbered(boxes)
-            for name, number in numbered(hand[1]).items():
-                places[name] = own_from + number
-            self.places.append(places)
+        self.own_from = len(boxes) + len(hands)
         self.texts = [hand[2] for hand in hands]
-        self.text_numbers = [numbered(hand[2]) for hand in hands]
-        self.hand_numbers = numbered(hands)
-        self.from_first = numbers_from_first(hands)
+        self.numbered = {}
 
-    def size_at(self, hand, place):
-        """Tell the size of the box at a place of the hand's control."""
-        many = len(self.common_sizes)
-        return self.common_sizes[place] if place < many else self.own_sizes[hand][place - many]
+    def numbered_at(self, hand, point):
+        """Tell the numbered row at a point of a hand."""
+        key = (hand, point)
+        if key not in self.numbered:
+            self.numbered[key] = numbered_row(self.whole, hand, row_of(self.texts[hand], point))
+        return self.numbered[key]
+
+    def moves(self, hand, control, point):
+        """Tell the moves of a hand at a point."""
+        return moves_of(self.numbered_at(hand, point), control, point)
+
+    def is_fault(self, hand, point):
+        """Tell whether the row at a point of a hand is a fault."""
+        return row_of(self.texts[hand], point)[0] == "fault"
+
+    def first_common(self):
+        """Tell the common state at first."""
+        hands = self.whole[1]
+        there = numbers_from_first(hands)
+        return (0,) * self.begun_from + tuple([1 if number in there else 0 for number in range(len(hands))])
 
 
 def layout_of(thing):

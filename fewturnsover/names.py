@@ -1,6 +1,5 @@
 """What a whole number is, and what a name is."""
 
-LETTERS = "abcdefghijklmnopqrstuvwxyz"
 LONGEST_NAME = 8
 
 
@@ -11,6 +10,7 @@ def is_whole(thing):
 
 def is_name(thing):
     """Tell of anything whether it is a name."""
-    if not isinstance(thing, str) or not 1 <= len(thing) <= LONGEST_NAME:
+    if not isinstance(thing, str) or len(thing) > LONGEST_NAME:
         return False
-    return all([sign in LETTERS for sign in thing])
+    # Letters that are all small and all of the plain alphabet: the empty text is none of them.
+    return thing.isascii() and thing.isalpha() and thing.islower()

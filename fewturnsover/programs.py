@@ -2,8 +2,8 @@
 
 from fewturnsover.errors import NoHand, NoPoint, NoProgram
 from fewturnsover.forms import is_between, is_tuple
-from fewturnsover.names import is_name
-from fewturnsover.rows import Scope, is_row
+from fewturnsover.names import LONGEST_NAME, is_name
+from fewturnsover.rows import are_rows
 
 MOST_COMMON = 8
 GREATEST_COMMON = 4
@@ -15,72 +15,96 @@ MOST_ROWS = 2000
 ROW_BEHIND_ALL = ("back",)
 
 
-def is_sized(thing, greatest):
-    """Tell of anything whether it is a name with a size."""
-    return is_tuple(thing, 2, 2) and is_name(thing[0]) and is_between(thing[1], 1, greatest)
-
-
-def are_boxes(thing, most, greatest, taken):
-    """Tell of anything whether it is boxes, none of a name that is taken."""
-    if not is_tuple(thing, 0, most) or not all([is_sized(box, greatest) for box in thing]):
+def are_boxes(thing, most, greatest, sizes):
+    """Tell of anything whether it is boxes, none of a name in sizes; put them into sizes."""
+    if not isinstance(thing, tuple) or len(thing) > most:
         return False
-    names = taken + [box[0] for box in thing]
-    return len(names) == len(set(names))
+    for box in thing:
+        if not isinstance(box, tuple) or len(box) != 2:
+            return False
+        name, size = box
+        # What is_name and is_whole ask is asked in place here: each ask looks at all boxes anew.
+        if not isinstance(name, str) or name in sizes or len(name) > LONGEST_NAME:
+            return False
+        if not name.isascii() or not name.isalpha() or not name.islower():
+            return False
+        if not isinstance(size, int) or not 1 <= size <= greatest or size is True:
+            return False
+        sizes[name] = size
+    return True
 
 
-def is_hand_in_whole(thing, common):
-    """Tell of anything whether it is a hand, whatever its texts are by themselves."""
-    if not is_tuple(thing, 3, 3) or not is_name(thing[0]):
+def scopes_of(common, hands):
+    """Tell what the rows of each hand may name; refuse the first hand that is none by itself or by a text."""
+    scopes = {}
+    for hand in hands:
+        if not isinstance(hand, tuple) or len(hand) != 3:
+            raise NoProgram(len(scopes), None, None)
+        name, own, thing = hand
+        sizes = common.copy()
+        if not isinstance(thing, tuple) or not 1 <= len(thing) <= MOST_TEXTS or not is_name(name) or name in scopes:
+            raise NoProgram(len(scopes), None, None)
+        if not are_boxes(own, MOST_OWN, GREATEST_OWN, sizes):
+            raise NoProgram(len(scopes), None, None)
+        texts = {}
+        for text in thing:
+            if not isinstance(text, tuple) or len(text) != 2:
+                raise NoProgram(len(scopes), len(texts), None)
+            title, rows = text
+            if not isinstance(title, str) or title in texts or len(title) > LONGEST_NAME:
+                raise NoProgram(len(scopes), len(texts), None)
+            if not title.isascii() or not title.isalpha() or not title.islower():
+                raise NoProgram(len(scopes), len(texts), None)
+            if not isinstance(rows, tuple) or not 1 <= len(rows) <= MOST_ROWS:
+                raise NoProgram(len(scopes), len(texts), None)
+            texts[title] = rows
+        scopes[name] = (sizes, texts)
+    return scopes
+
+
+def are_all_rows(scopes):
+    """Tell whether all rows of all hands are rows."""
+    try:
+        for name, (sizes, texts) in scopes.items():
+            for rows in texts.values():
+                if not are_rows(rows, len(rows), sizes, texts, scopes, name):
+                    return False
+    except KeyError:
         return False
-    return are_boxes(thing[1], MOST_OWN, GREATEST_OWN, common) and is_tuple(thing[2], 1, MOST_TEXTS)
+    return True
 
 
-def is_text_in_whole(thing):
-    """Tell of anything whether it is a text, whatever its rows are by themselves."""
-    return is_tuple(thing, 2, 2) and is_name(thing[0]) and is_tuple(thing[1], 1, MOST_ROWS)
+def is_row_of(scopes, name, end, row):
+    """Tell of anything whether it is a row of the hand of this name, in a text of so many rows."""
+    sizes, texts = scopes[name]
+    try:
+        return are_rows((row,), end, sizes, texts, scopes, name)
+    except KeyError:
+        return False
 
 
-def look_at_texts(hand, texts):
-    """Refuse the first text of the hand that is none by its form or name."""
-    names = []
-    for number, text in enumerate(texts):
-        if not is_text_in_whole(text) or text[0] in names:
-            raise NoProgram(hand, number, None)
-        names.append(text[0])
-
-
-def look_at_hands(common, hands):
-    """Refuse the first hand that is none by itself or by a text's form or name."""
-    names = []
-    for number, hand in enumerate(hands):
-        if not is_hand_in_whole(hand, common) or hand[0] in names:
-            raise NoProgram(number, None, None)
-        names.append(hand[0])
-        look_at_texts(number, hand[2])
-
-
-def look_at_rows(boxes, hands):
-    """Refuse the first row that is none, all hands and texts having forms and names."""
-    for number, hand in enumerate(hands):
-        sizes = {box[0]: box[1] for box in boxes + hand[1]}
-        texts = [text[0] for text in hand[2]]
-        others = [other[0] for other in hands if other[0] != hand[0]]
-        for place, text in enumerate(hand[2]):
-            scope = Scope(sizes, texts, others, len(text[1]))
-            for at, row in enumerate(text[1]):
-                if not is_row(scope, row):
-                    raise NoProgram(number, place, at)
+def refuse_first_wrong(scopes):
+    """Refuse the first row that is none."""
+    for hand, name in enumerate(scopes):
+        for text, rows in enumerate(scopes[name][1].values()):
+            for at, row in enumerate(rows):
+                if not is_row_of(scopes, name, len(rows), row):
+                    raise NoProgram(hand, text, at)
 
 
 def look_at_program(thing):
     """Tell None of a program; refuse anything else."""
-    if not is_tuple(thing, 2, 2) or not is_tuple(thing[1], 1, MOST_HANDS):
+    if not isinstance(thing, tuple) or len(thing) != 2:
         raise NoProgram(None, None, None)
     boxes, hands = thing
-    if not are_boxes(boxes, MOST_COMMON, GREATEST_COMMON, []):
+    common = {}
+    if not isinstance(hands, tuple) or not 1 <= len(hands) <= MOST_HANDS:
         raise NoProgram(None, None, None)
-    look_at_hands([box[0] for box in boxes], hands)
-    look_at_rows(boxes, hands)
+    if not are_boxes(boxes, MOST_COMMON, GREATEST_COMMON, common):
+        raise NoProgram(None, None, None)
+    scopes = scopes_of(common, hands)
+    if not are_all_rows(scopes):
+        refuse_first_wrong(scopes)
 
 
 def is_hand(hands, thing):
@@ -90,7 +114,8 @@ def is_hand(hands, thing):
 
 def look_at_hand(program, thing):
     """Refuse anything that is no number of a hand of the program."""
-    if not is_hand(program[1], thing):
+    # What is_hand asks is asked in place: this is done at each ask about a hand.
+    if not isinstance(thing, int) or not 0 <= thing < len(program[1]) or thing is True or thing is False:
         raise NoHand(thing)
 
 

@@ -1,125 +1,73 @@
-"""What a row of a text is."""
+"""What a row of a text is.
 
-from fewturnsover.forms import is_between, is_rising, is_tuple
-
-MOST_ON = 3
-MOST_WAYS = 4
-
-
-class Scope:
-    """What a row may name: boxes with their sizes, texts, other hands, and the row behind the last one."""
-
-    def __init__(self, sizes, texts, others, end):
-        self.sizes = sizes
-        self.texts = texts
-        self.others = others
-        self.end = end
+Each ask looks at all rows of its program anew. So they are looked at in one loop with few calls, by how many
+items a row has, then by its word; whole numbers are asked for in place, as ints that are neither True nor
+False. Only texts are compared and looked up: other things may not be fit for it.
+"""
 
 
-def is_box(scope, thing):
-    """Tell of anything whether it is a box that the row may name."""
-    # Only a text is looked up: other things may not be fit to be keys.
-    return isinstance(thing, str) and thing in scope.sizes
-
-
-def is_value(scope, box, thing):
-    """Tell of anything whether it is a value of the box."""
-    return is_between(thing, 0, scope.sizes[box] - 1)
-
-
-def is_number_of_row(scope, thing):
-    """Tell of anything whether it is the number of a row that can be gone to."""
-    return is_between(thing, 0, scope.end)
-
-
-def is_to(scope, box, source):
-    """Tell whether (`to`, value) is a source for the box."""
-    return len(source) == 2 and is_value(scope, box, source[1])
-
-
-def is_of(scope, box, source):
-    """Tell whether (`of`, other) is a source for the box."""
-    if len(source) != 2 or not is_box(scope, source[1]):
+def is_source(source, size, box, sizes):
+    """Tell of a tuple whether it is a source for a box; KeyError of another box that isn't in sizes."""
+    if len(source) != 2:
+        return len(source) == 1 and isinstance(source[0], str) and source[0] == "any"
+    word, thing = source
+    if not isinstance(word, str):
         return False
-    other = source[1]
-    return other != box and scope.sizes[other] <= scope.sizes[box]
+    if isinstance(thing, int):
+        if thing is True or thing is False:
+            return False
+        return 0 <= thing < size if word == "to" else word == "on" and 1 <= thing <= 3
+    return word == "of" and isinstance(thing, str) and thing != box and sizes[thing] <= size
 
 
-def is_on(scope, box, source):
-    """Tell whether (`on`, many) is a source for the box."""
-    return len(source) == 2 and is_between(source[1], 1, MOST_ON)
-
-
-def is_any(scope, box, source):
-    """Tell whether (`any`,) is a source for the box."""
-    return len(source) == 1
-
-
-SOURCES = {"to": is_to, "of": is_of, "on": is_on, "any": is_any}
-
-
-def first_word(thing):
-    """Tell of anything the text that it has first, where it is a tuple; else the empty text."""
-    if isinstance(thing, tuple) and thing and isinstance(thing[0], str):
-        return thing[0]
-    return ""
-
-
-def is_set(scope, row):
-    """Tell whether a row that begins with `set` is one."""
-    if len(row) != 3 or not is_box(scope, row[1]):
+def are_ways(thing, end):
+    """Tell of anything whether it is a rising tuple of one to four rows' numbers."""
+    if not isinstance(thing, tuple) or not 1 <= len(thing) <= 4:
         return False
-    check = SOURCES.get(first_word(row[2]))
-    return check is not None and check(scope, row[1], row[2])
+    ahead = -1
+    for way in thing:
+        if not isinstance(way, int) or not ahead < way <= end or way is True or way is False:
+            return False
+        ahead = way
+    return True
 
 
-def is_if(scope, row):
-    """Tell whether a row that begins with `if` is one."""
-    if len(row) != 4 or not is_box(scope, row[1]):
-        return False
-    return is_value(scope, row[1], row[2]) and is_number_of_row(scope, row[3])
-
-
-def is_go(scope, row):
-    """Tell whether a row that begins with `go` is one."""
-    if len(row) != 2 or not is_tuple(row[1], 1, MOST_WAYS):
-        return False
-    return all([is_number_of_row(scope, way) for way in row[1]]) and is_rising(row[1])
-
-
-def is_call(scope, row):
-    """Tell whether a row that begins with `call` is one."""
-    return len(row) == 2 and isinstance(row[1], str) and row[1] in scope.texts
-
-
-def is_wait(scope, row):
-    """Tell whether a row that begins with `wait` is one."""
-    return len(row) == 3 and is_box(scope, row[1]) and is_value(scope, row[1], row[2])
-
-
-def is_begin(scope, row):
-    """Tell whether a row that begins with `begin` is one."""
-    return len(row) == 2 and isinstance(row[1], str) and row[1] in scope.others
-
-
-def is_alone(scope, row):
-    """Tell whether a row whose word says all has nothing behind it."""
-    return len(row) == 1
-
-
-ROWS = {
-    "set": is_set,
-    "if": is_if,
-    "go": is_go,
-    "call": is_call,
-    "back": is_alone,
-    "wait": is_wait,
-    "begin": is_begin,
-    "fault": is_alone,
-}
-
-
-def is_row(scope, thing):
-    """Tell of anything whether it is a row."""
-    check = ROWS.get(first_word(thing))
-    return check is not None and check(scope, thing)
+def are_rows(rows, end, sizes, texts, hands, name):
+    """Tell whether all in a tuple are rows of the hand of this name; KeyError of a box that isn't in sizes."""
+    for row in rows:
+        if not isinstance(row, tuple):
+            return False
+        many = len(row)
+        if many == 3:
+            word, box, thing = row
+            if not isinstance(word, str) or not isinstance(box, str):
+                return False
+            if word == "set":
+                if not isinstance(thing, tuple) or not is_source(thing, sizes[box], box, sizes):
+                    return False
+            elif word != "wait" or not isinstance(thing, int) or not 0 <= thing < sizes[box]:
+                return False
+            elif thing is True or thing is False:
+                return False
+        elif many == 2:
+            word, thing = row
+            if not isinstance(word, str):
+                return False
+            if word == "go":
+                if not are_ways(thing, end):
+                    return False
+            elif not isinstance(thing, str):
+                return False
+            elif thing not in (texts if word == "call" else hands if word == "begin" and thing != name else ()):
+                return False
+        elif many == 4:
+            word, box, value, way = row
+            if not isinstance(word, str) or word != "if" or not isinstance(box, str):
+                return False
+            if not isinstance(value, int) or not 0 <= value < sizes[box] or value is True or value is False:
+                return False
+            if not isinstance(way, int) or not 0 <= way <= end or way is True or way is False:
+                return False
+        elif many != 1 or not isinstance(row[0], str) or row[0] != "back" and row[0] != "fault":
+            return False
+    return True

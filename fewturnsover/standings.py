@@ -4,8 +4,10 @@ A standing is a stand whose piles are chains: (first point, chain of the others)
 of a hand that is over. So a step costs the same however deep the pile is.
 """
 
-from fewturnsover.moves import is_fault, moves_of
 from fewturnsover.names import is_whole
+
+FIRST_PILE = ((0, 0),)
+FIRST_CHAIN = ((0, 0), None)
 
 
 def chain_of(points, chain):
@@ -24,38 +26,27 @@ def pile_of(chain):
     return tuple(points)
 
 
-def standing_of(stand):
-    """Tell the standing of a stand."""
-    common, hands = stand
-    return common, tuple([None if at is None else (at[0], chain_of(at[1], None)) for at in hands])
-
-
 def stand_of(standing):
     """Tell a standing with tuples for its chains."""
     common, hands = standing
     return common, tuple([None if at is None else (at[0], pile_of(at[1])) for at in hands])
 
 
-def begun_hand(layout, hand):
-    """Tell where a hand is that was begun just now."""
-    return (0,) * len(layout.own_sizes[hand]), ((0, 0), None)
-
-
-def with_begun(layout, common, hands):
-    """Tell the standing in which all hands are that are begun by the common state."""
-    begun = common[layout.begun_from:]
-    told = list(hands)
-    for number, at in enumerate(hands):
-        if at is None and begun[number] == 1:
-            told[number] = begun_hand(layout, number)
-    return common, tuple(told)
+def with_begun(program, common, places, pile):
+    """Tell where the hands are, those that are begun by the common state being begun, with this pile at first."""
+    if None not in places:
+        return places
+    boxes, hands = program
+    told = []
+    for hand, begun, at in zip(hands, common[len(boxes):], places):
+        told.append(((0,) * len(hand[1]), pile) if at is None and begun == 1 else at)
+    return tuple(told)
 
 
 def first_standing(layout):
     """Tell the standing at first."""
-    many = len(layout.texts)
-    begun = [1 if number in layout.from_first else 0 for number in range(many)]
-    return with_begun(layout, (0,) * layout.begun_from + tuple(begun), (None,) * many)
+    common = layout.first_common()
+    return common, with_begun(layout.whole, common, (None,) * len(layout.texts), FIRST_CHAIN)
 
 
 def has_point(at):
@@ -65,16 +56,16 @@ def has_point(at):
 
 def steps_from(layout, standing, hand):
     """Tell the steps of a hand at a standing: a list of tuples (choice, standing)."""
-    common, hands = standing
-    if not has_point(hands[hand]):
+    common, places = standing
+    if not has_point(places[hand]):
         return []
-    own, (point, chain) = hands[hand]
+    own, (point, chain) = places[hand]
     many = len(common)
     told = []
-    for choice, control, points in moves_of(layout, hand, common + own, point):
+    for choice, control, points in layout.moves(hand, common + own, point):
         at = (control[many:], chain_of(points, chain))
-        behind = with_begun(layout, control[:many], hands[:hand] + (at,) + hands[hand + 1:])
-        told.append((choice, behind))
+        behind = with_begun(layout.whole, control, places[:hand] + (at,) + places[hand + 1:], FIRST_CHAIN)
+        told.append((choice, (control[:many], behind)))
     return told
 
 
@@ -96,6 +87,6 @@ def stepped(layout, standing, hand, thing):
 def least_faulty(layout, standing):
     """Tell the least hand that faults at a standing, or None."""
     for number, at in enumerate(standing[1]):
-        if has_point(at) and is_fault(layout, number, at[1][0]):
+        if has_point(at) and layout.is_fault(number, at[1][0]):
             return number
     return None

@@ -1,41 +1,63 @@
-"""What a stand is, and a hand's steps at one."""
+"""What a stand is, and a hand's steps at one.
+
+Each ask is about one stand, so only what it needs of the program is looked up.
+"""
 
 from fewturnsover.errors import NoStand
-from fewturnsover.forms import are_values, is_tuple
+from fewturnsover.forms import are_values
 from fewturnsover.layout import layout_of
-from fewturnsover.programs import is_point, look_at_hand
-from fewturnsover.standings import first_standing, least_faulty, stand_of, standing_of, steps_from
+from fewturnsover.moves import moves_of, numbered_row
+from fewturnsover.programs import look_at_hand, look_at_program, row_of
+from fewturnsover.standings import FIRST_PILE, first_standing, stand_of, with_begun
 
 DEEPEST = 100
 
 
-def is_where(layout, hand, begun, thing):
-    """Tell of anything whether a hand, begun or not, can be there in a stand."""
-    if begun == 0:
-        return thing is None
-    if not is_tuple(thing, 2, 2) or not are_values(thing[0], layout.own_sizes[hand]):
+def is_pile(texts, thing):
+    """Tell of anything whether it is a pile of a stand, of a hand with these texts."""
+    if not isinstance(thing, tuple) or len(thing) > DEEPEST:
         return False
-    pile = thing[1]
-    return is_tuple(pile, 0, DEEPEST) and all([is_point(layout.texts[hand], point) for point in pile])
+    for point in thing:
+        if not isinstance(point, tuple) or len(point) != 2:
+            return False
+        text, row = point
+        # What is_point asks is asked in place: piles are looked at often.
+        if not isinstance(text, int) or not isinstance(row, int) or not 0 <= text < len(texts):
+            return False
+        if not 0 <= row <= len(texts[text][1]) or text is True or text is False or row is True or row is False:
+            return False
+    return True
 
 
-def is_stand_of(layout, thing):
-    """Tell of anything whether it is a stand of the layout's program."""
-    if not is_tuple(thing, 2, 2) or not are_values(thing[0], layout.common_sizes):
+def is_stand_of(program, thing):
+    """Tell of anything whether it is a stand of what was found to be a program."""
+    if not isinstance(thing, tuple) or len(thing) != 2:
         return False
-    common, hands = thing
-    begun = common[layout.begun_from:]
-    if not is_tuple(hands, len(begun), len(begun)):
+    boxes, hands = program
+    common, places = thing
+    if not isinstance(common, tuple) or not isinstance(places, tuple) or len(places) != len(hands):
         return False
-    return all([is_where(layout, number, begun[number], at) for number, at in enumerate(hands)])
+    many = len(boxes)
+    if len(common) != many + len(hands) or not are_values(common[:many], boxes):
+        return False
+    for hand, begun, at in zip(hands, common[many:], places):
+        if not isinstance(begun, int) or begun is True or begun is False:
+            return False
+        if begun == 0:
+            if at is not None:
+                return False
+        elif begun != 1 or not isinstance(at, tuple) or len(at) != 2:
+            return False
+        elif not are_values(at[0], hand[1]) or not is_pile(hand[2], at[1]):
+            return False
+    return True
 
 
-def layout_for(program, stand):
-    """Tell the layout of the program; refuse what is no program, then what is no stand of it."""
-    layout = layout_of(program)
-    if not is_stand_of(layout, stand):
+def look_at_stand(program, stand):
+    """Refuse what is no program, then what is no stand of it."""
+    look_at_program(program)
+    if not is_stand_of(program, stand):
         raise NoStand()
-    return layout
 
 
 def first_stand(program):
@@ -45,18 +67,33 @@ def first_stand(program):
 
 def is_stand(program, thing):
     """Tell of anything whether it is a stand of the program."""
-    return is_stand_of(layout_of(program), thing)
+    look_at_program(program)
+    return is_stand_of(program, thing)
 
 
 def steps(program, stand, hand):
     """Tell the steps of a hand at a stand: a list of tuples (choice, stand)."""
-    layout = layout_for(program, stand)
+    look_at_stand(program, stand)
     look_at_hand(program, hand)
-    found = steps_from(layout, standing_of(stand), hand)
-    return [(choice, stand_of(behind)) for choice, behind in found]
+    common, places = stand
+    if places[hand] is None or not places[hand][1]:
+        return []
+    own, pile = places[hand]
+    row = numbered_row(program, hand, row_of(program[1][hand][2], pile[0]))
+    many = len(common)
+    told = []
+    for choice, control, points in moves_of(row, common + own, pile[0]):
+        behind = places[:hand] + ((control[many:], points + pile[1:]),) + places[hand + 1:]
+        if row[0] == "begin":
+            behind = with_begun(program, control, behind, FIRST_PILE)
+        told.append((choice, (control[:many], behind)))
+    return told
 
 
 def fault_at(program, stand):
     """Tell the least hand that faults at a stand, or None."""
-    layout = layout_for(program, stand)
-    return least_faulty(layout, standing_of(stand))
+    look_at_stand(program, stand)
+    for number, at in enumerate(stand[1]):
+        if at is not None and at[1] and row_of(program[1][number][2], at[1][0])[0] == "fault":
+            return number
+    return None

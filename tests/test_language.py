@@ -14,7 +14,7 @@ BUILTINS = set("""len range enumerate zip min max sum abs sorted reversed int st
     super property staticmethod classmethod""".split())
 METHODS = set("""append clear copy count endswith extend find get index insert isalnum isalpha isdigit islower isspace isupper
     items join keys ljust lower lstrip partition pop remove replace reverse rfind rjust rpartition rsplit rstrip setdefault split
-    splitlines startswith strip update upper values zfill bit_length add discard""".split())
+    splitlines startswith strip update upper values zfill bit_length isascii add discard""".split())
 BARRED_WORDS = set("""type typing typing_extensions enum Enum IntEnum StrEnum Flag IntFlag Generic Protocol ABC ABCMeta namedtuple
     NamedTuple TypedDict TYPE_CHECKING abstractmethod""".split())
 BARRED_NAMES = set("""register mro elements open input law version_info with_traceback add_note attrgetter breakpoint builtins
@@ -102,7 +102,7 @@ class Interface(unittest.TestCase):
 class Imports(unittest.TestCase):
     def test_full_names_of_what_the_file_defines(self):
         defined = {path.stem: [node.name for node in tree.body if isinstance(node, (ast.FunctionDef, ast.ClassDef))]
-                   for path, tree in trees()}
+                   + [node.targets[0].id for node in tree.body if isinstance(node, ast.Assign)] for path, tree in trees()}
         self.assertEqual(nodes_of(ast.Import), [])
         for path, node in nodes_of(ast.ImportFrom):
             self.assertEqual(node.level, 0)
@@ -258,7 +258,7 @@ class Code(unittest.TestCase):
             self.assertIsInstance(node.exc, ast.Call, path.name)
             self.assertIn(node.exc.func.id, own, path.name)
         for path, node in nodes_of(ast.ExceptHandler):
-            self.assertIn(node.type.id, own, path.name)
+            self.assertIn(node.type.id, own + ["KeyError"], path.name)
 
     def test_strings_escape_line_feeds_at_most(self):
         for path in files():
