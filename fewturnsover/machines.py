@@ -73,6 +73,28 @@ def far_from_end(machine):
     return far
 
 
+def living_edges(machine, far):
+    """Tell the edges to states from which an end can be come to, those in far."""
+    return [edge for edge in machine[1] if edge[2] in far]
+
+
+def by_points(edges):
+    """Tell a dict from states to dicts from points to lists of the states to which edges lead by them."""
+    found = {}
+    for state, point, other in edges:
+        found.setdefault(state, {}).setdefault(point, []).append(other)
+    return found
+
+
+def states_by_control(machine, far):
+    """Tell a dict from controls, rising, to lists of their states from which an end can be come to, those in far."""
+    found = {}
+    for control, state in machine[0]:
+        if state in far:
+            found.setdefault(control, []).append(state)
+    return found
+
+
 def reads(machine, control, pile):
     """Tell whether a machine reads a control and a pile."""
     ahead = edges_ahead(machine)

@@ -34,6 +34,9 @@ INTERFACE = {
     "walker": "Walker",
     "runs": "stands_of is_faulty put_together",
     "machines": "is_machine reads controls_of least_pile",
+    "least": "least",
+    "pairs": "lets_pairs inside",
+    "closing": "is_closed",
 }
 
 
