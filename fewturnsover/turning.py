@@ -5,15 +5,15 @@ from fewturnsover.machines import living_edges
 from fewturnsover.programs import is_point
 
 
-def control_boxes(program, hand):
-    """Tell the boxes of a hand's control: the common ones, one for each hand, the hand's own ones."""
+def common_boxes(program):
+    """Tell the boxes of the common state: the common ones, and one for each hand, that was begun or not."""
     boxes, hands = program
-    return boxes + (("", 2),) * len(hands) + hands[hand][1]
+    return boxes + (("", 2),) * len(hands)
 
 
 def is_control(program, hand, thing):
     """Tell of a tuple whether it is a control of a hand: one in which the hand is begun."""
-    if not are_values(thing, control_boxes(program, hand)):
+    if not are_values(thing, common_boxes(program) + program[1][hand][1]):
         return False
     return thing[len(program[0]) + hand] == 1
 

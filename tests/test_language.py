@@ -37,6 +37,10 @@ INTERFACE = {
     "least": "least",
     "pairs": "lets_pairs inside",
     "closing": "is_closed",
+    "growing": "grown fault_in stretch",
+    "limits": "is_limit limit_of less covers is_within",
+    "books": "lets_book",
+    "told": "told least_turns",
 }
 
 
