@@ -1,14 +1,6 @@
 """States that read the same on, put into classes."""
 
 
-def one_besides(members, touched):
-    """Tell a member that isn't touched, or None."""
-    for state in members:
-        if state not in touched:
-            return state
-    return None
-
-
 class Classes:
     """States, numbered from 0 on, put into classes by their kinds, then split until no class can be.
 
@@ -37,14 +29,14 @@ class Classes:
         return tuple([self.of_state[other] for point, other in self.ways[state]])
 
     def parts_of(self, number, touched):
-        """Tell the lists of touched states that are to leave a class: all of one mark but those that stay."""
+        """Tell the lists of touched states that are to leave a class, those of one mark in one."""
         parts = {}
         for state in touched:
             parts.setdefault(self.mark_of(state), []).append(state)
-        # Those that aren't touched have one mark still; they stay, and who has their mark. Else the most stay.
-        stays = one_besides(self.members[number], touched)
-        if stays is not None:
-            return [parts[mark] for mark in parts if mark != self.mark_of(stays)]
+        # Others have the mark still that all had; no touched one has it, for its own has a new class in it.
+        # Where there are no others the most stay.
+        if len(touched) < len(self.members[number]):
+            return list(parts.values())
         return sorted(list(parts.values()), key=len)[:-1]
 
     def split_class(self, number):

@@ -11,7 +11,6 @@ class Layout:
         boxes, hands = program
         self.whole = program
         self.begun_from = len(boxes)
-        self.own_from = len(boxes) + len(hands)
         self.texts = [hand[2] for hand in hands]
         self.numbered = {}
 

@@ -2,7 +2,7 @@
 
 from fewturnsover.errors import NoHand, NoPoint, NoProgram
 from fewturnsover.forms import is_between, is_tuple
-from fewturnsover.names import LONGEST_NAME, is_name
+from fewturnsover.names import LONGEST_NAME
 from fewturnsover.rows import are_rows
 
 MOST_COMMON = 8
@@ -41,9 +41,11 @@ def scopes_of(common, hands):
         if not isinstance(hand, tuple) or len(hand) != 3:
             raise NoProgram(len(scopes), None, None)
         name, own, thing = hand
-        sizes = common.copy()
-        if not isinstance(thing, tuple) or not 1 <= len(thing) <= MOST_TEXTS or not is_name(name) or name in scopes:
+        if not isinstance(name, str) or name in scopes or len(name) > LONGEST_NAME or not isinstance(thing, tuple):
             raise NoProgram(len(scopes), None, None)
+        if not name.isascii() or not name.isalpha() or not name.islower() or not 1 <= len(thing) <= MOST_TEXTS:
+            raise NoProgram(len(scopes), None, None)
+        sizes = common.copy()
         if not are_boxes(own, MOST_OWN, GREATEST_OWN, sizes):
             raise NoProgram(len(scopes), None, None)
         texts = {}

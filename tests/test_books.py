@@ -136,6 +136,19 @@ class FirstEntries(Books):
         self.lets(False, THREE, self.limit, put_at(self.book, (0, 2, 0), wide))
         self.lets(True, THREE, (0, (None, None)), put_at(book_for(THREE, 0), (0, 2, 0), wide))
 
+    def test_machines_have_the_hands_own_values_and_points(self):
+        book = book_for(THREE, 0)
+        limit = limit_of(THREE, 0)
+        first = book[0][2][0]
+        for control in ((0,), (1,), (2,), (-1,), (), (0, 0), (0, 1, 1, 0)):
+            mine = control in ((0,), (1,))
+            self.lets(mine, THREE, limit, put_at(book, (0, 2, 0), joined(first, machine_of([(control, 5)], [(5, (0, 1), 1)], []))))
+            self.lets(True, THREE, limit, put_at(book, (0, 2, 0), joined(first, machine_of([(control, 5)], [(5, (0, 1), 6)], []))))
+        for point in ((0, 0), (0, 4), (0, 5), (1, 0), (9, 9)):
+            mine = point in ((0, 0), (0, 4))
+            self.lets(mine, THREE, limit, put_at(book, (0, 2, 0), joined(first, machine_of([], [(7, point, 1)], []))))
+            self.lets(True, THREE, limit, put_at(book, (0, 2, 0), joined(first, machine_of([], [(0, point, 7)], []))))
+
     def test_no_entries(self):
         self.lets(False, THREE, self.limit, [])
         self.lets(False, THREE, (0, (0, 0)), [])
@@ -278,6 +291,9 @@ class Changed(Books):
         # One that isn't let by itself lets the whole not by, though none links to it.
         self.denies(self.book + [self.book[0][:4] + ((None, None),)])
         self.lets(True, THREE, self.limit, self.book + [((0, (None, None)),) + self.book[0][1:4] + ((None, None),)])
+        for last in (None, 0, 1, 2, 3, -1):
+            more = ((0, (None, None)),) + self.book[0][1:3] + (last, (None, None))
+            self.lets(last in (None, 0, 1), THREE, self.limit, self.book + [more])
 
     def test_entries_in_another_order(self):
         chance = random.Random(45)

@@ -56,6 +56,17 @@ class Forms(Looking):
         for thing in anything():
             self.refuses(thing, NOWHERE)
 
+    def test_lengths_and_letters_of_names(self):
+        for name in ("a", "z", "ab", "abcdefg", "abcdefgh", "zzzzzzzz", "abcdefghi", "abcdefghij", "", "A", "aB", "a1", "a_", "a b", " a"):
+            good = name.isalpha() and name.islower() and len(name) <= 8
+            for program, fields in (
+                (one_hand([BACK], boxes=(("x", 2), (name, 2))), NOWHERE),
+                (one_hand([BACK], own=(("x", 2), (name, 2))), (0, None, None)),
+                (((), (("first", (), (("top", (BACK,)),)), (name, (), (("top", (BACK,)),)))), (1, None, None)),
+                (((), (("first", (), (("top", (BACK,)), (name, (BACK,)))),)), (0, 1, None)),
+            ):
+                self.lets(program) if good else self.refuses(program, fields)
+
     def test_never_fits_anywhere(self):
         for path in paths(RICH):
             for thing in never():
