@@ -68,6 +68,6 @@ def are_rows(rows, end, sizes, texts, hands, name):
                 return False
             if not isinstance(way, int) or not 0 <= way <= end or way is True or way is False:
                 return False
-        elif many != 1 or not isinstance(row[0], str) or row[0] != "back" and row[0] != "fault":
+        elif many != 1 or not isinstance(row[0], str) or row[0] not in ("back", "fault"):
             return False
     return True
