@@ -15,6 +15,8 @@ def some_place(layout, hand, machine, common):
 
 def legs_of(entries):
     """Tell the turns to the fault, last one first: (number of the entry ahead, hand, common behind)."""
+    if entries.faulty_at_first:
+        return []
     number, hand, control, pile = entries.fault
     many = len(entries.heads[0][1])
     legs = [(number, hand, control[:many])]
@@ -26,14 +28,14 @@ def legs_of(entries):
 
 
 def run_to_fault(layout, entries):
-    """Tell a run to the fault of the entries.
+    """Tell a run to the fault of the entries, of no turns where it stands at first.
 
     What each hand may be at hangs on its own turns and the common states alone. So each turn is led back by
     itself, from where its hand has to be behind it; a hand that needs to be nowhere is put anywhere.
     """
-    number, hand, control, pile = entries.fault
     places = {}
-    if pile is not None:
+    if entries.fault is not None and entries.fault[3] is not None:
+        number, hand, control, pile = entries.fault
         places[hand] = (control[len(entries.heads[0][1]):], pile)
     turns = []
     for number, hand, common in legs_of(entries):

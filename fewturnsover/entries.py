@@ -55,17 +55,30 @@ class Turn:
                 self.ways.append((known, onward, inside(short, onward)[1]))
 
 
+def folded_head(head, lots):
+    """Tell an entry in a form that is the same for all that are the same but for hands of a lot exchanged."""
+    limit, common, machines, last = head
+    places = [(machine, hand == last) for hand, machine in enumerate(machines)]
+    for lot in lots:
+        ordered = sorted([places[hand] for hand in lot])
+        for hand, place in zip(lot, ordered):
+            places[hand] = place
+    return limit, common, tuple(places)
+
+
 class Entries:
     """The entries that come from a first one, in the order of how many turns they take.
 
-    `heads` has of each entry (limit, common, machines, last); `came` of each the number of the one that it came
-    from and the hand that went; `tuples` of each that has gone on a tuple of what a book has for each hand.
-    `fault` is, as soon as there is one, (number, hand, control, pile): from that entry the hand comes there,
-    and there faults, or has just begun a hand that faults, where the pile is None.
+    Entries that are the same but for hands of one of the lots exchanged come once. `heads` has of each entry
+    (limit, common, machines, last); `came` of each the number of the one that it came from and the hand that
+    went; `tuples` of each that has gone on a tuple of what a book has for each hand. `fault` is, as soon as
+    there is one, (number, hand, control, pile): from that entry the hand comes there, and there faults, or has
+    just begun a hand that faults, where the pile is None.
     """
 
-    def __init__(self, layout, limit):
+    def __init__(self, layout, limit, lots):
         self.layout = layout
+        self.lots = lots
         self.numbers = {}
         self.heads = []
         self.came = []
@@ -77,13 +90,14 @@ class Entries:
         self.faulty_at_first = begins_with_fault(layout, common, nobody)
         self.number_of((limit, common, with_first(layout, common, nobody), None), None, None)
 
-    def number_of(self, key, ahead, hand):
+    def number_of(self, head, ahead, hand):
         """Tell the number of an entry, a new one where it didn't come yet."""
+        key = folded_head(head, self.lots)
         if key not in self.numbers:
             if len(self.heads) == MOST_ENTRIES:
                 raise TooMany(MOST_ENTRIES)
             self.numbers[key] = len(self.heads)
-            self.heads.append(key)
+            self.heads.append(head)
             self.came.append((ahead, hand))
         return self.numbers[key]
 
@@ -125,12 +139,21 @@ class Entries:
         """Tell the book of all entries, when all have gone on."""
         return [head + (turns,) for head, turns in zip(self.heads, self.tuples)]
 
+    def go_round(self):
+        """Go on from each entry that is there, until there is a fault; tell whether new ones came."""
+        there = len(self.heads)
+        while not self.has_fault() and len(self.tuples) < there:
+            self.go_on(len(self.tuples))
+        return len(self.heads) > there
 
-def entries_of(layout, limit):
+    def has_fault(self):
+        """Tell whether there is a fault, at first or later."""
+        return self.faulty_at_first or self.fault is not None
+
+
+def entries_of(layout, limit, lots=()):
     """Tell the entries that come for a limit, all, or those until the first fault."""
-    entries = Entries(layout, limit)
-    number = 0
-    while not entries.faulty_at_first and entries.fault is None and number < len(entries.heads):
-        entries.go_on(number)
-        number += 1
+    entries = Entries(layout, limit, lots)
+    while entries.go_round() and not entries.has_fault():
+        pass
     return entries

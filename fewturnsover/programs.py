@@ -135,14 +135,14 @@ def row_of(texts, point):
     return rows[at] if at < len(rows) else ROW_BEHIND_ALL
 
 
-def names_begun(hand):
-    """Tell the names of the hands that rows of this hand begin, some perhaps often."""
-    return [row[1] for text in hand[2] for row in text[1] if row[0] == "begin"]
+def all_begun(hands):
+    """Tell the names of the hands that rows of any of the hands begin, some perhaps often."""
+    return [row[1] for hand in hands for text in hand[2] for row in text[1] if row[0] == "begin"]
 
 
 def numbers_from_first(hands):
     """Tell the numbers of the hands that no row begins."""
-    begun = [name for hand in hands for name in names_begun(hand)]
+    begun = all_begun(hands)
     return [number for number, hand in enumerate(hands) if hand[0] not in begun]
 
 
@@ -163,7 +163,7 @@ def like_hands(program):
     look_at_program(program)
     hands = program[1]
     # A hand that begins one or is begun is like none, not even one of the same texts.
-    free = [number for number in numbers_from_first(hands) if not names_begun(hands[number])]
+    free = [number for number in numbers_from_first(hands) if not all_begun((hands[number],))]
     lots = []
     for number, hand in enumerate(hands):
         lot = [number]

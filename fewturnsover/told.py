@@ -11,11 +11,7 @@ from fewturnsover.machines import is_from_nought
 def told_by(layout, limit):
     """Tell what told tells, of a limit whose all isn't None."""
     entries = entries_of(layout, limit)
-    if entries.faulty_at_first:
-        return "run", []
-    if entries.fault is not None:
-        return "run", run_to_fault(layout, entries)
-    return "book", entries.book()
+    return ("run", run_to_fault(layout, entries)) if entries.has_fault() else ("book", entries.book())
 
 
 def told(program, limit):
