@@ -178,3 +178,35 @@ def order_program(chance, hands=3, boxes=2, greatest=4, rows=5, deep=True, begin
             made.append((title, tuple(lines)))
         told.append((name, mine, tuple(made)))
     return common, tuple(told)
+
+
+def some_noise(chance, deep):
+    """Rows that turn nothing common, in which the hand may call as deep as it likes, behind which it goes on."""
+    return chance.choice([[], [("set", "a", ("any",))], [("call", "sub")], [("set", "a", ("on", 1)), ("call", "sub")] if deep else [("call", "sub")]])
+
+
+def relay_program(chance, turns, hands=2, deep=True, begins=False):
+    """A program whose hands hand a box on to one another, so many turns at most being needed to a fault."""
+    names = ["one", "two", "three"][:hands]
+    order = [chance.randrange(hands)]
+    while len(order) < turns:
+        order.append(chance.choice([hand for hand in range(hands) if hand != order[-1]]))
+    rows = [[] for name in names]
+    value = 0
+    for number, hand in enumerate(order):
+        onward = chance.choice([known for known in range(3) if known != value])
+        rows[hand].extend(some_noise(chance, deep) + [("wait", "x", value)])
+        rows[hand].append(("set", "x", ("to", onward)) if number + 1 < turns else FAULT)
+        value = onward
+    told = []
+    for hand, name in enumerate(names):
+        lines = rows[hand] or [("wait", "x", 2)]
+        if begins and hand == 0:
+            lines = [("begin", other) for other in names[1:]] + lines
+        # Some rows are changed, so that a fault may need fewer turns, or can't be come to.
+        if chance.random() < 0.3:
+            at = chance.randrange(len(lines))
+            lines[at] = chance.choice([("set", "x", ("any",)), ("wait", "x", chance.randrange(3)), ("go", (at, at + 1)), lines[at]])
+        sub = [("go", (1, 2)), ("call", "sub"), ("set", "a", ("any",))] if deep else [("set", "a", ("on", 1)), ("if", "a", 1, 0)]
+        told.append((name, (("a", 2),), (("top", tuple(lines)), ("sub", tuple(sub)))))
+    return (("x", 3),), tuple(told)

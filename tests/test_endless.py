@@ -9,7 +9,7 @@ from fewturnsover.errors import NoLimit, NoProgram, TooMany
 from fewturnsover.limits import limit_of
 from fewturnsover.runs import is_faulty, put_together
 from fewturnsover.told import least_turns
-from tests.ordering import order_program, rounds_of
+from tests.ordering import order_program, relay_program, rounds_of
 from tests.reference import faulty_of, some_walk
 from tests.samples import BACK, DEEP, FAULT, RICH, TWO, anything, never, of_hands
 from tests.telling import faulty_programs
@@ -141,6 +141,14 @@ class Endless(unittest.TestCase):
             words = self.goes(program, 3)
             found[tuple(words)] = True
         self.assertGreater(len(found), 4)
+
+    def test_faults_that_need_several_turns(self):
+        chance = random.Random(75)
+        found = {}
+        for count in range(40):
+            words = self.goes(relay_program(chance, chance.randint(2, 4), chance.choice([2, 3]), begins=count % 4 == 0), 4)
+            found[tuple(words)] = True
+        self.assertLessEqual({("open",) * many + ("run",) * (5 - many) for many in (2, 3, 4)}, set(found))
 
     def test_walks_never_fault_where_a_book_is_told(self):
         chance = random.Random(73)

@@ -9,7 +9,7 @@ from fewturnsover.folding import looked_at
 from fewturnsover.limits import limit_of
 from fewturnsover.programs import like_hands
 from fewturnsover.told import least_turns, told
-from tests.ordering import order_program
+from tests.ordering import order_program, relay_program
 from tests.samples import BACK, DEEP, FAULT, RICH, TWO, anything, never, of_hands
 from tests.telling import faulty_programs
 
@@ -126,6 +126,17 @@ class Looking(unittest.TestCase):
             folded, plain = self.looks((boxes, hands + more), chance.randint(0, 3))
             fewer += folded < plain
         self.assertGreater(fewer, 20)
+
+    def test_faults_that_need_several_turns(self):
+        chance = random.Random(63)
+        found = {}
+        for count in range(60):
+            boxes, hands = relay_program(chance, chance.randint(2, 3), begins=count % 4 == 0)
+            more = (("like",) + hands[1][1:],) if count % 3 else ()
+            program = boxes, hands + more
+            self.looks(program, 3)
+            found[looked_at(program, 3)[0]] = True
+        self.assertLessEqual({1, 2, 3}, set(found))
 
     def test_exchanged_hands_are_told_alike(self):
         for program in (LIKE_THREE, TWO_LOTS, OTHER_BEGIN, BEGIN_BOTH):

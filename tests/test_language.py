@@ -41,6 +41,18 @@ INTERFACE = {
     "limits": "is_limit limit_of less covers is_within",
     "books": "lets_book",
     "told": "told least_turns",
+    "folding": "looked_at",
+    "endless": "endless",
+    "onehand": "one_hand led_back",
+    "tables": "table_of joined",
+    "keeper": "Keeper",
+    "texts": "shown shown_run read read_run",
+    "desk": "Desk",
+}
+IN_CLASSES = {
+    ("walker", "Walker"): "step back stand turns twin __eq__ __len__",
+    ("keeper", "Keeper"): "raise_turns change back ask kept made turns program twin __eq__ __len__",
+    ("desk", "Desk"): "say __len__",
 }
 
 
@@ -103,6 +115,13 @@ class Interface(unittest.TestCase):
         for stem, words in INTERFACE.items():
             tree = ast.parse((PACKAGE / (stem + ".py")).read_text())
             defined = [node.name for node in tree.body if isinstance(node, (ast.FunctionDef, ast.ClassDef))]
+            self.assertLessEqual(set(words.split()), set(defined), stem)
+
+    def test_all_methods_are_defined_in_their_classes(self):
+        for (stem, name), words in IN_CLASSES.items():
+            tree = ast.parse((PACKAGE / (stem + ".py")).read_text())
+            found = [node for node in tree.body if isinstance(node, ast.ClassDef) and node.name == name][0]
+            defined = [node.name for node in found.body if isinstance(node, ast.FunctionDef)]
             self.assertLessEqual(set(words.split()), set(defined), stem)
 
 

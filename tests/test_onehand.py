@@ -8,7 +8,7 @@ from fewturnsover.onehand import led_back, one_hand
 from fewturnsover.programs import look_at_program
 from fewturnsover.runs import is_faulty, stands_of
 from fewturnsover.told import least_turns, told
-from tests.ordering import all_orders, faults_by_order, faults_by_stands, is_part_of, order_program
+from tests.ordering import all_orders, faults_by_order, faults_by_stands, is_part_of, order_program, relay_program
 from tests.reference import faulty_of, first_of, steps_of
 from tests.samples import BACK, DEEP, FAULT, RICH, TWO, anything, never, of_hands
 from tests.samples import one_hand as with_one_hand
@@ -144,11 +144,27 @@ class ByChance(Made):
                 found[wanted] = found.get(wanted, 0) + 1
         self.assertGreater(min(found.values()), 60)
 
+    def test_faults_that_need_several_turns(self):
+        chance = random.Random(87)
+        found = {}
+        for count in range(150):
+            hands = chance.choice([2, 2, 3])
+            program = relay_program(chance, chance.randint(2, 5), hands, begins=chance.random() < 0.3)
+            known = least_turns(program, 5)
+            # By the order of the run itself, and by one somewhat otherwise.
+            order = [hand for hand, choices in known[1]] if known else [chance.randrange(hands) for turn in range(4)]
+            for other in (order, order + [chance.randrange(hands)], order[1:], order[:-1], order[::-1], [*order[:1], chance.randrange(hands), *order[1:]]):
+                if 1 <= len(other) <= 6:
+                    wanted = faults_by_order(program, other)
+                    self.assertIs(self.makes(program, tuple(other)), wanted, (program, other))
+                    found[wanted] = found.get(wanted, 0) + 1
+        self.assertGreater(min(found.values()), 150)
+
     def test_many_faults_of_one_program_are_led_back(self):
         chance = random.Random(83)
         led = 0
         for count in range(400):
-            program = order_program(chance, greatest=2, rows=4)
+            program = order_program(chance, greatest=2, rows=4) if count % 2 else relay_program(chance, 3)
             order = tuple(chance.randrange(len(program[1])) for turn in range(chance.randint(1, 5)))
             made = one_hand(program, order)
             if least_turns(made, 1) is not None:
