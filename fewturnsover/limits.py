@@ -1,9 +1,9 @@
 """Limits: how many turns may be, and how many each hand may have."""
 
-from fewturnsover.errors import NoLimit
+from fewturnsover.errors import NoHand, NoLimit
 from fewturnsover.forms import is_tuple
 from fewturnsover.machines import is_from_nought
-from fewturnsover.programs import look_at_program
+from fewturnsover.programs import is_hand, look_at_program
 from fewturnsover.runs import put_together
 
 
@@ -42,6 +42,8 @@ def one_less(number):
 def less(limit, hand):
     """Tell a limit less a hand's turn."""
     most, each = limit
+    if not is_hand(each, hand):
+        raise NoHand(hand)
     return one_less(most), each[:hand] + (one_less(each[hand]),) + each[hand + 1:]
 
 

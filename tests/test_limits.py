@@ -2,7 +2,7 @@
 
 import unittest
 
-from fewturnsover.errors import NoLimit, NoProgram
+from fewturnsover.errors import NoHand, NoLimit, NoProgram
 from fewturnsover.limits import covers, is_limit, is_within, less, limit_of
 from tests.samples import BACK, RICH, anything, never, of_hands, paths, replaced
 
@@ -94,6 +94,13 @@ class Less(unittest.TestCase):
         self.assertEqual(less((None, (None, 1)), 1), (None, (None, 0)))
         self.assertEqual(less((2, (None, 0, 4)), 1), (1, (None, 0, 4)))
         self.assertEqual(less((0, (None, 3, 4)), 2), (0, (None, 3, 3)))
+
+    def test_hands_that_are_none(self):
+        for limit in ((2, (1, 1)), (None, (None, None)), (0, (0, 0))):
+            for thing in never() + [2, 3, -2, 10 ** 29, "0", (), (0,), (0, 1), 1.0]:
+                with self.assertRaises(NoHand) as caught:
+                    less(limit, thing)
+                self.assertIs(caught.exception.hand, thing)
 
 
 class Covers(unittest.TestCase):
