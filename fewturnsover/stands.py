@@ -5,10 +5,9 @@ Each ask is about one stand, so only what it needs of the program is looked up.
 
 from fewturnsover.errors import NoStand
 from fewturnsover.forms import are_values
-from fewturnsover.layout import layout_of
 from fewturnsover.moves import moves_of, numbered_row
-from fewturnsover.programs import look_at_hand, look_at_program, row_of
-from fewturnsover.standings import FIRST_PILE, first_standing, stand_of, with_begun
+from fewturnsover.programs import all_begun, look_at_hand, look_at_program, row_of
+from fewturnsover.standings import FIRST_PILE, with_begun
 
 DEEPEST = 100
 
@@ -18,13 +17,17 @@ def is_pile(texts, thing):
     if not isinstance(thing, tuple) or len(thing) > DEEPEST:
         return False
     for point in thing:
+        # What is_point asks is asked in place: piles are looked at often.
         if not isinstance(point, tuple) or len(point) != 2:
             return False
         text, row = point
-        # What is_point asks is asked in place: piles are looked at often.
-        if not isinstance(text, int) or not isinstance(row, int) or not 0 <= text < len(texts):
+        if not isinstance(text, int) or not isinstance(row, int):
             return False
-        if not 0 <= row <= len(texts[text][1]) or text is True or text is False or row is True or row is False:
+        if text is True or text is False or row is True or row is False:
+            return False
+    # Deep piles have few points, each often: whether these are the hand's is asked once of each.
+    for text, row in thing if len(thing) < 8 else sorted(set(thing)):
+        if not 0 <= text < len(texts) or not 0 <= row <= len(texts[text][1]):
             return False
     return True
 
@@ -38,8 +41,12 @@ def is_stand_of(program, thing):
     if not isinstance(common, tuple) or not isinstance(places, tuple) or len(places) != len(hands):
         return False
     many = len(boxes)
-    if len(common) != many + len(hands) or not are_values(common[:many], boxes):
+    if len(common) != many + len(hands):
         return False
+    # What are_values asks is asked in place; there is a value for each box, then one for each hand.
+    for box, value in zip(boxes, common):
+        if not isinstance(value, int) or not 0 <= value < box[1] or value is True or value is False:
+            return False
     for hand, begun, at in zip(hands, common[many:], places):
         if not isinstance(begun, int) or begun is True or begun is False:
             return False
@@ -62,7 +69,11 @@ def look_at_stand(program, stand):
 
 def first_stand(program):
     """Tell the stand at first."""
-    return stand_of(first_standing(layout_of(program)))
+    look_at_program(program)
+    boxes, hands = program
+    begun = all_begun(hands)
+    places = [None if hand[0] in begun else ((0,) * len(hand[1]), FIRST_PILE) for hand in hands]
+    return (0,) * len(boxes) + tuple([0 if at is None else 1 for at in places]), tuple(places)
 
 
 def is_stand(program, thing):
@@ -94,6 +105,9 @@ def fault_at(program, stand):
     """Tell the least hand that faults at a stand, or None."""
     look_at_stand(program, stand)
     for number, at in enumerate(stand[1]):
-        if at is not None and at[1] and row_of(program[1][number][2], at[1][0])[0] == "fault":
-            return number
+        if at is not None and at[1]:
+            text, row = at[1][0]
+            rows = program[1][number][2][text][1]
+            if row < len(rows) and rows[row][0] == "fault":
+                return number
     return None

@@ -127,6 +127,17 @@ class IsStand(unittest.TestCase):
         self.denies(replaced(STAND, (1, 2, 1, 0), (0, 3)))
         self.denies(replaced(STAND, (1, 2, 1, 0), (1, 0)))
 
+    def test_piles_with_one_point_that_is_none(self):
+        points = ((0, 1), (1, 0), (0, 9), (1, 3), (0, 0))
+        wrong = [(0, True), (True, 0), (False, 1), (0, False), (1, True), (0, 10), (1, 4), (2, 0), (0, -1), (-1, 0), (0, 10 ** 29), (0,), (0, 1, 0),
+                 [0, 1], (0, None), (0, [1]), ("0", 1), (0, 1.0)]
+        for many in (1, 2, 7, 8, 9, 50, 100):
+            pile = (points * 20)[:many]
+            self.assertIs(is_stand(RICH, replaced(STAND, (1, 0, 1), pile)), True)
+            for at in {0, many // 2, many - 1}:
+                for point in wrong + never():
+                    self.assertIs(is_stand(RICH, replaced(STAND, (1, 0, 1), pile[:at] + (point,) + pile[at + 1:])), False)
+
     def test_piles_to_a_hundred_points(self):
         for many in (0, 1, 2, 99, 100, 101, 102, 300):
             for hand in range(3):
