@@ -115,6 +115,7 @@ def leave_text(plan, hand):
         script.put_row(("fault",))
     else:
         used = [box for (owner, name), box in plan.own.items() if owner == hand]
+        # The next hand has its own values in the same boxes, from 0 on; the shared ones it looks up or guesses.
         for box in list(plan.now.values()) + used:
             script.put_row(("set", box, ("to", 0)))
         if len(plan.places[hand]) > 1:

@@ -116,6 +116,83 @@ class Ordinary(Made):
         self.assertEqual(run, before)
 
 
+class Directed(Made):
+    """What one slip in the made program would turn."""
+
+    def orders_that_fault(self, program, most=3):
+        found = {order: self.makes(program, order) for order in all_orders(len(program[1]), most)}
+        for order, faulty in found.items():
+            self.assertIs(faulty, faults_by_stands(program, order), order)
+        return [order for order, faulty in found.items() if faulty]
+
+    def setter(self, *rows):
+        return [list(rows) or [("set", "x", ("to", 1))]]
+
+    def test_turns_end_behind_every_row(self):
+        # The first hand has to be where each row leads as x is 0, and to go on as it is 1.
+        behind = [("wait", "x", 1), FAULT]
+        for rows in ([("if", "x", 0, 2), BACK], [("if", "x", 1, 4)], [("wait", "x", 0)], [("set", "y", ("of", "x")), ("if", "y", 1, 5)],
+                     [("wait", "x", 0), ("set", "y", ("any",)), ("wait", "y", 1)], [("wait", "x", 0), ("go", (0, 2))],
+                     [("if", "x", 0, 2), ("go", (1,)), ("if", "x", 0, 4), ("go", (3,))]):
+            program = of_hands([rows + behind + [BACK]], self.setter(), boxes=(("x", 2), ("y", 2)))
+            self.assertEqual(self.orders_that_fault(program), [(0, 1, 0)], rows)
+
+    def test_turns_end_within_calls(self):
+        calls = [[("call", "b"), ("wait", "x", 0), BACK, FAULT], [("wait", "x", 0), ("call", "c"), ("wait", "x", 1), FAULT], [("if", "x", 0, 2), ("go", (1,))]]
+        self.assertEqual(self.orders_that_fault(of_hands(calls, self.setter(), boxes=(("x", 2),))), [(0, 1, 0)])
+        back = [[("call", "b"), ("wait", "x", 1), FAULT], [("if", "x", 0, 2), ("go", (1,))]]
+        self.assertEqual(self.orders_that_fault(of_hands(back, self.setter(), boxes=(("x", 2),))), [(0, 1, 0)])
+
+    def test_turns_end_behind_a_begin(self):
+        begins = [[("begin", "handb"), ("wait", "x", 1), FAULT]]
+        self.assertEqual(self.orders_that_fault(of_hands(begins, self.setter(), boxes=(("x", 2),))), [(0, 1, 0)])
+        # The hand that is begun goes on at 0 and at its first row, whatever the others are at.
+        begun = [[("wait", "x", 1), FAULT]]
+        program = of_hands([[("set", "x", ("to", 1)), ("begin", "handb"), ("set", "x", ("to", 0))]], begun, self.setter(), boxes=(("x", 2),))
+        self.assertEqual(self.orders_that_fault(program, 2), [(0, 1)])
+
+    def test_own_boxes_are_nought_for_each_hand(self):
+        def pair(*rows):
+            one = ("one", (("a", 2), ("b", 2)), (("top", (("set", "a", ("to", 1)), ("set", "b", ("to", 1)), ("set", "x", ("to", 1)))),))
+            return (("x", 2),), (one, ("two", (("a", 2), ("b", 2)), (("top", (("wait", "x", 1),) + rows),)))
+        for box in "ab":
+            self.assertEqual(self.orders_that_fault(pair(("if", box, 1, 3), BACK, FAULT)), [])
+            self.assertEqual(self.orders_that_fault(pair(("wait", box, 0), FAULT), 2), [(0, 1)])
+
+    def test_common_boxes_that_one_hand_alone_names(self):
+        boxes = (("x", 2), ("y", 2), ("z", 2))
+        one = [[("set", "y", ("to", 1)), ("set", "x", ("to", 1))]]
+        self.assertEqual(self.orders_that_fault(of_hands(one, [[("wait", "x", 1), ("wait", "z", 1), FAULT]], boxes=boxes)), [])
+        self.assertEqual(self.orders_that_fault(of_hands(one, [[("wait", "x", 1), ("wait", "z", 0), FAULT]], boxes=boxes), 2), [(0, 1)])
+        # It stays as it is from one turn of its hand to the next.
+        keeps = [[("set", "y", ("to", 1)), ("set", "x", ("to", 1)), ("wait", "x", 0), ("wait", "y", 1), FAULT]]
+        self.assertEqual(self.orders_that_fault(of_hands(keeps, [[("wait", "x", 1), ("set", "x", ("to", 0))]], boxes=boxes)), [(0, 1, 0)])
+
+    def leads_all(self, program, order):
+        """Lead all faults of the made program back, as many as there are stands at which it faults."""
+        made = one_hand(program, order)
+        runs = faulty_runs(random.Random(88), made, 10 ** 6, 20000)
+        self.assertEqual(bool(runs), least_turns(made, 1) is not None)
+        hands = set()
+        for run in runs:
+            hands.add(tuple(hand for hand, choices in self.leads(program, order, run)))
+        return hands
+
+    def test_several_faults_of_one_order(self):
+        race = of_hands([[("set", "x", ("to", 1)), FAULT]], [[("wait", "x", 0), ("set", "y", ("to", 1)), FAULT]], boxes=(("x", 2), ("y", 2)))
+        self.assertEqual(self.leads_all(race, (0, 1)), {(0,), (1,)})
+        self.assertEqual(self.leads_all(race, (1, 0)), {(0,), (1,), (1, 0)})
+        self.leads_all(race, (0, 1, 0, 1))
+        # Behind the first hand's fault the second's next turn counts for nothing.
+        late = of_hands([[("set", "x", ("to", 1)), ("wait", "x", 2), ("set", "x", ("to", 1)), FAULT]],
+                        [[("wait", "x", 1), ("set", "x", ("to", 2)), ("wait", "x", 0), FAULT]], boxes=(("x", 3),))
+        self.assertEqual(self.leads_all(late, (0, 1, 0, 1)), {(0, 1, 0)})
+        three = of_hands([[("set", "x", ("to", 1)), FAULT]], [[("wait", "x", 0), ("set", "y", ("to", 1)), FAULT]],
+                         [[("set", "y", ("any",)), ("wait", "y", 1), ("wait", "x", 1), FAULT]], boxes=(("x", 2), ("y", 2)))
+        for order in ((0, 1, 2), (2, 1, 0), (1, 2, 0), (2, 0, 1, 2)):
+            self.leads_all(three, order)
+
+
 class ByChance(Made):
     def test_against_all_stands(self):
         chance = random.Random(81)
@@ -182,12 +259,12 @@ class ByChance(Made):
                 self.assertIs(faulty, least_turns(program, most) is not None)
 
 
-def faulty_runs(chance, program, most):
+def faulty_runs(chance, program, most, stands_most=1500):
     """Some runs of a program of one hand that fault, found by going on by chance among all stands."""
     stands = {first_of(program): []}
     front = list(stands)
     found = []
-    while front and len(stands) < 1500 and len(found) < most:
+    while front and len(stands) < stands_most and len(found) < most:
         stand = front.pop(chance.randrange(len(front)))
         if faulty_of(program, stand) is not None:
             # The steps are put into some turns of the one hand.
